@@ -1,0 +1,1 @@
+"""Roadsall: hands that send letters, and all their goings."""

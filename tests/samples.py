@@ -1,0 +1,46 @@
+"""Plans that several tests start from, made anew at each call."""
+
+from roadsall.words import read_condition, read_sum
+
+
+def step(name, at, go, when="true", take=None, changes=(), sends=()):
+    return (name, at, read_condition(when), take, [(cell, read_sum(text)) for cell, text in changes],
+            [(mark, read_sum(text), way, target) for mark, text, way, target in sends], go)
+
+
+def small_plan():
+    """Two askers and a server: each part of a step is there somewhere and lacks elsewhere."""
+    askers = ("asker", 2, ["idle", "waiting"], [("tries", 0, 3, 0), ("last", -5, 4, -1)], [], [
+        step("ask", "idle", "waiting", "tries < 3", None, [("tries", "tries + 1")], [("ask", "tries", "all", "server")]),
+        step("hear", "waiting", "idle", "true", ("tell", "server", "last", "")),
+    ])
+    servers = ("server", 1, ["ready", "busy"], [("held", 0, 9, 0)], ["guest"], [
+        step("take", "ready", "busy", "held = 0 or held > 0 and not held = 9", ("ask", "asker", "held", "guest")),
+        step("tell", "busy", "ready", "true", None, [], [("tell", "held - 1", "who", "guest")]),
+        step("shout", "busy", "busy", "held != 0", ("ask", "asker", "", ""), [("held", "it * 2")],
+             [("tell", "it", "any", "asker"), ("tell", "0", "all", "asker")]),
+    ])
+    roads = [("asker", "server", "row", 2, True, False), ("server", "asker", "heap", 3, False, True)]
+    wishes = [("weak", "server", "tell"), ("strong", "asker", "hear")]
+    return ([askers, servers], roads, wishes)
+
+
+SMALL_TEXT = """family asker 2 idle waiting
+cell tries 0 3 0
+cell last -5 4 -1
+step ask: at idle; when tries < 3; set tries tries + 1; send ask tries to all server; go waiting
+step hear: at waiting; take tell from server into last; go idle
+family server 1 ready busy
+cell held 0 9 0
+who guest
+step take: at ready; when held = 0 or held > 0 and not held = 9; take ask from asker into held by guest; go busy
+step tell: at busy; send tell held - 1 to who guest; go ready
+step shout: at busy; when held != 0; take ask from asker; set held it * 2; send tell it to any asker; send tell 0 to all asker; go busy
+road asker server row 2 loses
+road server asker heap 3 doubles
+wish weak server tell
+wish strong asker hear"""
+
+
+def plain_family(name="f", many=1, rooms=("r",), cells=(), whos=(), steps=()):
+    return (name, many, list(rooms), list(cells), list(whos), list(steps))
