@@ -190,6 +190,7 @@ class ReadConditionTest(unittest.TestCase):
             ("true and or true", 11), ("true + 1", 5), ("[true] + 1", 7), ("[]", 1), ("a = b not", 6),
             ("true not true", 5), ("true true", 5), ("a = 1 + true or", 12), ("(true)", 5), ("not = 1", 4),
             ("(a or", 3), ("a + b or", 6), ("[true] [true]", 7), ("true\n", 4),
+            ("[true?", 5), ("[true(", 5), ("[true[", 5), ("[a = 1;", 6), ("[(a]", 3), ("[(a?", 3), ("a = (1?", 6),
         ])
 
     def test_wrong_words(self):
