@@ -17,12 +17,15 @@ class Board:
         self.places = {}
         for place, pair in enumerate(self.pairs):
             self.places[(pair[1], pair[2])] = place
+        self.members = {}
+        for hand in range(len(self.homes)):
+            self.members.setdefault(self.family_of(hand)[0], []).append(hand)
 
     def family_of(self, hand):
         return self.families[self.homes[hand]]
 
     def hands_beside(self, hand, name):
-        return [other for other in range(len(self.homes)) if other != hand and self.family_of(other)[0] == name]
+        return [other for other in self.members[name] if other != hand]
 
 
 def families_of(plan):
@@ -57,7 +60,11 @@ def deeds(plan, standing):
 
 
 def do(plan, standing, deed):
-    for known, end in ends_from(plan, standing):
+    return do_on(Board(plan), standing, deed)
+
+
+def do_on(board, standing, deed):
+    for known, end in ends_on(board, standing):
         if known == deed:
             return end
     raise NoDeed()

@@ -1,5 +1,7 @@
-"""Plans that several tests start from, made anew at each call."""
+"""Plans and small tools that several tests start from; plans are made anew at each call."""
 
+from roadsall.plans import read_plan
+from roadsall.standings import pairs_of
 from roadsall.words import read_condition, read_sum
 
 
@@ -44,3 +46,43 @@ wish strong asker hear"""
 
 def plain_family(name="f", many=1, rooms=("r",), cells=(), whos=(), steps=()):
     return (name, many, list(rooms), list(cells), list(whos), list(steps))
+
+
+def told(hand, name, letter=None, hands=()):
+    return ("step", hand, name, letter, hands)
+
+
+def with_hand(standing, hand, own):
+    hands = standing[0]
+    return (hands[:hand] + (own,) + hands[hand + 1:], standing[1])
+
+
+def with_roads(plan, standing, letters):
+    pairs = [(one, other) for road, one, other in pairs_of(plan)]
+    assert set(letters) <= set(pairs)
+    return (standing[0], tuple(letters.get(pair, road) for pair, road in zip(pairs, standing[1])))
+
+
+def on_road(plan, standing, one, other):
+    pairs = [(first, second) for road, first, second in pairs_of(plan)]
+    return standing[1][pairs.index((one, other))]
+
+
+def cells_plan(more=""):
+    """One hand by itself, for which just 2,000 standings come: two rooms with three cells of ten numbers."""
+    return read_plan(f"""family f 1 r s t
+cell a 0 9 0
+cell b 0 9 0
+cell c 0 9 0
+step ra: at r; set a a + 1; go r
+step rb: at r; set b b + 1; go r
+step rc: at r; set c c + 1; go r
+step over: at r; go s
+step sa: at s; set a a + 1; go s
+step sb: at s; set b b + 1; go s
+step sc: at s; set c c + 1; go s{more}""")
+
+
+def one_more_plan():
+    """The same with one standing more, 2,001."""
+    return cells_plan("\nstep end: at s; when a + b + c = 27; go t")

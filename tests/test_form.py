@@ -22,6 +22,9 @@ NO_WORDS = re.compile(r"\b(type|typing|typing_extensions|enum|Enum|IntEnum|StrEn
 SPECIAL = {"__init__", "__eq__", "__repr__", "__str__", "__len__"}
 WALKED = {"zip", "enumerate", "reversed", "range"}
 WALKERS = {"list", "tuple", "dict", "sorted", "sum", "any", "all", "enumerate", "zip", "min", "max"}
+KEYWORDS = {"sorted": {"key", "reverse"}, "min": {"key", "default"}, "max": {"key", "default"}, "sum": {"start"},
+            "enumerate": {"start"}, "zip": {"strict"}}
+CHANGES = {"append", "clear", "extend", "insert", "pop", "remove", "reverse", "setdefault", "update"}
 NO_NODES = (ast.With, ast.Match, ast.Delete, ast.Global, ast.Nonlocal, ast.Assert, ast.Yield, ast.YieldFrom, ast.AsyncFor,
             ast.AsyncWith, ast.AsyncFunctionDef, ast.Await, ast.SetComp, ast.DictComp, ast.GeneratorExp, ast.NamedExpr,
             ast.Starred, ast.Div, ast.MatMult, ast.AnnAssign, ast.Import, ast.TryStar)
@@ -177,6 +180,45 @@ class FormTest(unittest.TestCase):
             if called in ("set", "frozenset"):
                 self.assertTrue(isinstance(node.above, (ast.Compare, ast.BinOp)) or isinstance(node.above, ast.Call)
                                 and getattr(node.above.func, "id", "") in ("len", "sorted"), where)
+
+    def test_no_local_hides_a_name_of_its_file(self):
+        for path in files():
+            tree = ast.parse(path.read_text())
+            tops = {node.name for node in tree.body if isinstance(node, (ast.FunctionDef, ast.ClassDef))}
+            tops |= {node.targets[0].id for node in tree.body if isinstance(node, ast.Assign)}
+            tops |= {name.name for node in tree.body if isinstance(node, ast.ImportFrom) for name in node.names}
+            for top in tree.body:
+                for node in ast.walk(top) if isinstance(top, (ast.FunctionDef, ast.ClassDef)) else ():
+                    name = node.arg if isinstance(node, ast.arg) else ""
+                    if isinstance(node, ast.Name) and isinstance(node.ctx, ast.Store):
+                        name = node.id
+                    self.assertNotIn(name, tops, f"{path.name}:{getattr(node, 'lineno', 0)}")
+
+    def test_keywords(self):
+        own = {node.name for _, node in self.each_node() if isinstance(node, (ast.FunctionDef, ast.ClassDef))}
+        for where, node in self.each_node():
+            if isinstance(node, ast.Call) and node.keywords and getattr(node.func, "id", "") not in own:
+                called = getattr(node.func, "id", "")
+                self.assertLessEqual({word.arg for word in node.keywords}, KEYWORDS.get(called, set()), where)
+
+    def test_what_a_loop_walks_is_not_changed_in_it(self):
+        for where, node in self.each_node():
+            if not isinstance(node, ast.For):
+                continue
+            walked = {ast.dump(part) for part in ast.walk(node.iter) if isinstance(part, (ast.Name, ast.Attribute))}
+            for part in [part for line in node.body for part in ast.walk(line)]:
+                if isinstance(part, ast.Call) and getattr(part.func, "attr", "") in CHANGES:
+                    self.assertNotIn(ast.dump(part.func.value), walked, where)
+                if isinstance(part, ast.Subscript) and isinstance(part.ctx, ast.Store):
+                    self.assertNotIn(ast.dump(part.value).replace("Store", "Load"), walked, where)
+
+    def test_errors_are_raised_on_the_spot_and_taken_by_name(self):
+        for where, node in self.each_node():
+            if isinstance(node, ast.Raise):
+                self.assertIsInstance(node.exc, ast.Call, where)
+            if isinstance(node, ast.ExceptHandler):
+                self.assertIsInstance(node.type, ast.Name, where)
+                self.assertNotIn(node.type.id, ("Exception", "TypeError"), where)
 
 
 if __name__ == "__main__":

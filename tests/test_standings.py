@@ -4,27 +4,7 @@ import unittest
 from roadsall.errors import NoDeed
 from roadsall.plans import check_plan, read_plan
 from roadsall.standings import begin, deeds, do, ends_from, families_of, pairs_of
-from samples import small_plan
-
-
-def told(hand, name, letter=None, hands=()):
-    return ("step", hand, name, letter, hands)
-
-
-def with_hand(standing, hand, own):
-    hands = standing[0]
-    return (hands[:hand] + (own,) + hands[hand + 1:], standing[1])
-
-
-def with_roads(plan, standing, letters):
-    pairs = [(one, other) for road, one, other in pairs_of(plan)]
-    assert set(letters) <= set(pairs)
-    return (standing[0], tuple(letters.get(pair, road) for pair, road in zip(pairs, standing[1])))
-
-
-def on_road(plan, standing, one, other):
-    pairs = [(first, second) for road, first, second in pairs_of(plan)]
-    return standing[1][pairs.index((one, other))]
+from samples import on_road, small_plan, told, with_hand, with_roads
 
 
 class StandingCase(unittest.TestCase):
