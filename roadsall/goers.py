@@ -32,6 +32,7 @@ class Thinner:
         self.board = Board(plan)
         self.parts = hand_parts(facts)
         self.ranks = {}
+        self.kept = {}
 
     def ends_of(self, standing):
         hand = self.hand_for(standing)
@@ -82,16 +83,19 @@ class Thinner:
         family = self.board.families[home]
         if not is_quiet_room(family, room):
             return []
-        ends = quiet_ends(family, room, cells)
-        if any([self.is_seen(family, (room, cells), end) for end in ends]):
+        ends = [(home, end[0], end[1]) for end in quiet_ends(family, room, cells)]
+        # A step is seen where some part of the facts is kept on one side of it alone.
+        if any([self.kept_in(end) != self.kept_in(thing) for end in ends]):
             return []
-        return [(home, end[0], end[1]) for end in ends]
+        return ends
 
-    def is_seen(self, family, own, end):
-        for name, room, condition in self.parts:
-            if name == family[0] and fits(family, own, room, condition) != fits(family, end, room, condition):
-                return True
-        return False
+    def kept_in(self, thing):
+        if thing not in self.kept:
+            home, room, cells = thing
+            family = self.board.families[home]
+            parts = [part for part in self.parts if part[0] == family[0]]
+            self.kept[thing] = [fits(family, (room, cells), part[1], part[2]) for part in parts]
+        return self.kept[thing]
 
 
 def whole(plan):
