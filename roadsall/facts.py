@@ -29,16 +29,16 @@ def comings(plan):
 
 def coming_rows(plan):
     board = Board(plan)
-    return rows_from(begin(plan), lambda standing: ends_on(board, standing))
+    return rows_from([begin(plan)], lambda standing: ends_on(board, standing))
 
 
-def rows_from(first, ends_of):
-    rows = [(first, None, None)]
-    listed = {first: True}
+def rows_from(firsts, ends_of):
+    rows = [(first, None, None) for first in firsts]
+    listed = dict([(first, True) for first in firsts])
     place = 0
     while place < len(rows):
-        standing = rows[place][0]
-        for deed, end in ends_of(standing):
+        thing = rows[place][0]
+        for deed, end in ends_of(thing):
             if end not in listed:
                 if len(rows) == MOST_STANDINGS:
                     raise TooMany()

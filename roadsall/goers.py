@@ -104,13 +104,13 @@ def whole(plan):
 
 def folded(plan):
     folder = Folder(plan)
-    rows = rows_from(folder.least_one(begin(plan)), lambda standing: folder.least_ends(standing))
+    rows = rows_from([folder.least_one(begin(plan))], lambda standing: folder.least_ends(standing))
     return [row[0] for row in rows]
 
 
 def thinned(plan, facts):
     thinner = Thinner(plan, facts)
-    rows = rows_from(begin(plan), lambda standing: thinner.ends_of(standing))
+    rows = rows_from([begin(plan)], lambda standing: thinner.ends_of(standing))
     return [thinner.row_of(row[0]) for row in rows]
 
 

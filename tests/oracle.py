@@ -219,3 +219,23 @@ def chance_fact(chance, plan, depth, plain=False):
     if kind in ("some knows", "each knows"):
         return (kind, family[0], chance_fact(chance, plan, depth - 1))
     return (kind,)
+
+
+def chance_walk_plan(seed):
+    """One or two families that walk from room to room without letters, with many wishes: for what comes on fair runs."""
+    chance = random.Random(seed)
+    families = []
+    for name in ["f", "g"][:chance.choice([1, 1, 2])]:
+        rooms = ["p", "q", "r", "s", "t", "u"][:chance.choice([3, 4, 5, 6])]
+        steps = []
+        for place in range(8):
+            at = rooms[place % len(rooms)] if place < len(rooms) else chance.choice(rooms[:-1])
+            steps.append((f"step{'abcdefgh'[place]}", at, ("true",), None, [], [], chance.choice(rooms)))
+        families.append((name, chance.choice([1, 1, 1, 2]) if len(families) == 0 else 1, rooms, [], [], steps))
+    wishes = []
+    for _ in range(chance.choice([0, 1, 2, 3, 4, 5, 6, 6, 6])):
+        family = chance.choice(families)
+        wishes.append((chance.choice(["weak", "strong", "strong"]), family[0], chance.choice(family[5])[0]))
+    plan = (families, [], wishes)
+    check_plan(plan)
+    return plan

@@ -86,3 +86,46 @@ step sc: at s; set c c + 1; go s{more}""")
 def one_more_plan():
     """The same with one standing more, 2,001."""
     return cells_plan("\nstep end: at s; when a + b + c = 27; go t")
+
+
+def ring_plan(more=""):
+    """One hand that counts to 999 in one room and then in another, and begins anew: 2,000 standings, one round."""
+    lines = ["family f 1 r s", "cell a 0 9 0", "cell b 0 9 0", "cell c 0 9 0"]
+    for room, other in ["rs", "sr"]:
+        lines += [f"step {room}a: at {room}; when a < 9; set a a + 1; go {room}",
+                  f"step {room}b: at {room}; when a = 9 and b < 9; set a 0; set b b + 1; go {room}",
+                  f"step {room}c: at {room}; when a = 9 and b = 9 and c < 9; set a 0; set b 0; set c c + 1; go {room}",
+                  f"step {room}d: at {room}; when a = 9 and b = 9 and c = 9; set a 0; set b 0; set c 0; go {other}"]
+    return read_plan("\n".join(lines) + more)
+
+
+# Two askers enter by turns, as the guard lets one of them in at a time.
+LOCK = """family f 2 out wait in
+step ask: at out; send ask 0 to all g; go wait
+step enter: at wait; take grant from g; go in
+step leave: at in; send free 0 to all g; go out
+family g 1 idle busy
+who w
+step grant: at idle; take ask from f by w; send grant 0 to who w; go busy
+step free: at busy; take free from f; go idle
+road f g row 2
+road g f row 1"""
+
+# A letter that may be lost is sent again and again.
+RESEND = """family f 1 r
+step send: at r; send m 0 to all g; go r
+family g 1 deaf sure
+step hear: at deaf; take m from f; go sure
+road f g row 1 loses"""
+
+
+def some(family, room="", when="true"):
+    return ("some", family, room, read_condition(when))
+
+
+def every(family, room="", when="true"):
+    return ("all", family, room, read_condition(when))
+
+
+def many(family, room, word, number, when="true"):
+    return ("many", family, room, read_condition(when), word, number)
