@@ -1,7 +1,7 @@
 """Answers: sayings settled, each with its paper."""
 
 from roadsall.cans import can_answer
-from roadsall.facts import KNOWING, parts_of
+from roadsall.facts import speaks_of_knowing
 from roadsall.lasting import LASTING, lasting_answer
 from roadsall.safety import SAFETY, safety_answer
 from roadsall.webs import Web
@@ -21,10 +21,3 @@ def plain_answer(web, saying, way):
     if saying[0] in LASTING:
         return lasting_answer(web, saying)
     return can_answer(web, saying[1])
-
-
-def speaks_of_knowing(saying):
-    parts = []
-    for fact in saying[1:]:
-        parts.extend(parts_of(fact))
-    return any([part[0] in KNOWING for part in parts])

@@ -10,11 +10,13 @@ KNOWING = ("some knows", "each knows")
 
 
 class Scene:
-    # The standings in which a fact is looked at, and which of them are dry, once that is asked.
+    # The standings in which a fact is looked at, and which of them are dry, once that is asked. What hands know hangs
+    # on all standings that come: they are the scene around this one, or this one itself.
 
-    def __init__(self, plan, standings):
+    def __init__(self, plan, standings, around=None):
         self.board = Board(plan)
         self.standings = standings
+        self.around = self if around is None else around
         self.dries = None
 
     def dry_truths(self):
@@ -135,7 +137,7 @@ def letter_number(standing, places, mark):
 
 def knowing_truths(scene, fact):
     kind, name, inner = fact
-    inner_truths = truths_in(scene, inner)
+    inner_truths = truths_in(scene.around, inner)
     found = []
     for hand in scene.board.members[name]:
         known = known_truths(scene, hand, inner_truths)
@@ -148,10 +150,11 @@ def knowing_truths(scene, fact):
 
 def known_truths(scene, hand, inner_truths):
     firm = {}
-    for standing, truth in zip(scene.standings, inner_truths):
+    for standing, truth in zip(scene.around.standings, inner_truths):
         own = standing[0][hand]
         firm[own] = firm.get(own, True) and truth
-    return [firm[standing[0][hand]] for standing in scene.standings]
+    # Where no standing comes in which the hand's own is the same, every fact holds in all of them.
+    return [firm.get(standing[0][hand], True) for standing in scene.standings]
 
 
 def parts_of(fact):
@@ -163,3 +166,10 @@ def parts_of(fact):
     if kind in KNOWING:
         return [fact] + parts_of(fact[2])
     return [fact]
+
+
+def speaks_of_knowing(saying):
+    parts = []
+    for fact in saying[1:]:
+        parts.extend(parts_of(fact))
+    return any([part[0] in KNOWING for part in parts])

@@ -8,7 +8,7 @@ SAFETY = ("never", "always", "ahead")
 
 
 def safety_answer(web, saying, way):
-    bads, finals = bad_and_final(web, saying)
+    bads, finals = bad_and_final(saying, lambda fact: web.truths_of(fact))
     rows = rows_from([0], lambda place: ends_ahead(web, finals, place))
     for place, row in enumerate(rows):
         if bads[row[0]]:
@@ -21,13 +21,13 @@ def safety_answer(web, saying, way):
     return ("yes", ("all", web.standings_in(rows)))
 
 
-def bad_and_final(web, saying):
-    ones = web.truths_of(saying[1])
+def bad_and_final(saying, truths_by):
+    ones = truths_by(saying[1])
     if saying[0] == "never":
         return (ones, [False] * len(ones))
     if saying[0] == "always":
         return ([not one for one in ones], [False] * len(ones))
-    others = web.truths_of(saying[2])
+    others = truths_by(saying[2])
     return ([other and not one for one, other in zip(ones, others)], ones)
 
 

@@ -178,7 +178,7 @@ def chance_plan(seed):
     if len(names) == 1 and seed % 2:
         families[0] = ("f", 3) + families[0][2:]
     roads = [(one, other, chance.choice(["row", "heap"]), chance.choice([1, 1, 2]), chance.random() < 0.2,
-              chance.random() < 0.2) for one in names for other in names if chance.random() < 0.6]
+              chance.random() < 0.2) for one in names for other in names if chance.random() < 0.6][:8]
     wishes = []
     for family in families:
         for place in range(chance.choice([2, 3, 3, 4])):
@@ -239,3 +239,29 @@ def chance_walk_plan(seed):
     plan = (families, [], wishes)
     check_plan(plan)
     return plan
+
+
+def chance_letters(chance, road):
+    letters = [(chance.choice("mn"), chance.randint(-1, 2)) for _ in range(chance.choice([0, 0, 0, 1, road[3]]))]
+    return tuple(sorted(letters) if road[2] == "heap" else letters)
+
+
+def chance_standing(chance, plan):
+    """Anything that has the form of a standing of the plan; most such ones can't come."""
+    homes = families_of(plan)
+    hands = []
+    for home in homes:
+        name, many, rooms, cells, whos, steps = plan[0][home]
+        hands.append((chance.randrange(len(rooms)), tuple(chance.randint(cell[1], cell[2]) for cell in cells),
+                      tuple(chance.randint(-1, len(homes) - 1) for _ in whos)))
+    return (tuple(hands), tuple(chance_letters(chance, pair[0]) for pair in pairs_of(plan)))
+
+
+def all_behind(plan, standing, most):
+    """The standing and all that come behind it, or None where they are more than most."""
+    found = [standing]
+    for one in found:
+        found += [end for end in dict.fromkeys(end for deed, end in ends_from(plan, one)) if end not in found]
+        if len(found) > most:
+            return None
+    return found
