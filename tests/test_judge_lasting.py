@@ -72,6 +72,34 @@ class LotsTest(JudgeCase):
                    [([0], None, []), ([1], None, []), ([2], None, [])]))
         self.wrong(plan, saying, "yes", ("lots", [r, s, t], [r, s, t, u], [([place], None, []) for place in range(4)]))
 
+    def test_rows_besides(self):
+        plan = read_plan("""family f 1 r s t u w
+step rs: at r; go s
+step st: at s; go t
+step tu: at t; go u
+step ut: at u; go t
+step leave: at t; go w
+step ws: at w; go s
+wish strong f leave""")
+        r, s, t, u, w = [room(place) for place in range(5)]
+        saying = ("at last", ("or", some("f", "t"), some("f", "w")))
+        lots = [([0], None, []), ([1], None, [])]
+        both = ([2, 3], ("strong", 0, "leave"), [([3], None, [])])
+        self.right(plan, saying, "yes", ("lots", [r, s, t], [r, s], lots))
+        # What has the fact may be a row, and so may what comes behind it alone, as long as the lots hold.
+        self.right(plan, saying, "yes", ("lots", [r, s, t], [r, s, t, u], lots + [both]),
+                   ("lots", [r, s, t], [r, s, u], lots + [([2], None, [])]),
+                   ("lots", [w, r, s, t], [r, s, w], [([2], None, [])] + lots))
+        self.wrong(plan, saying, "yes", ("lots", [r, s, t], [r, s, t], lots + [([2], None, [])]),
+                   ("lots", [r, s, t], [r, s, t, u], lots + [([2], None, []), ([3], None, [])]),
+                   ("lots", [r, s, t], [r, s, w], lots + [([2], None, [])]), ("lots", [r, s, t, u], [r, s], lots))
+        # From w, which is besides here, s comes without t, so s is a row too.
+        saying = ("whenever", some("f", "u"), some("f", "t"))
+        self.right(plan, saying, "yes", ("lots", [r, s, t, u, w], [u], [([0], None, [])]),
+                   ("lots", [r, s, t, u, w], [u, w, s], [([0], None, []), ([1], None, []), ([2], None, [])]))
+        self.wrong(plan, saying, "yes", ("lots", [r, s, t, u, w], [u, w], [([0], None, []), ([1], None, [])]),
+                   ("lots", [r, s, t, u], [u], [([0], None, [])]))
+
     def test_dry_rows(self):
         plan = read_plan(PAIR.replace("2 r", "1 r"))
         r, s, t = [room(place) for place in range(3)]
